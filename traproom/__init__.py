@@ -1,0 +1,1 @@
+"""Traproom: shows that are safe for all timings."""
