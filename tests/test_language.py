@@ -59,6 +59,33 @@ class LanguageTest(unittest.TestCase):
                     else:
                         self.assertRegex(node.module, r"^traproom\.[a-z_]+$", name)
 
+    def test_imported_names_are_used_and_mean_nothing_else(self):
+        for name, text in sources():
+            tree = ast.parse(text)
+            words = {one.name for node in ast.walk(tree) if isinstance(node, ast.ImportFrom) for one in node.names}
+            read = {node.id for node in ast.walk(tree) if isinstance(node, ast.Name) and isinstance(node.ctx, ast.Load)}
+            bound = {node.id for node in ast.walk(tree)
+                     if isinstance(node, ast.Name) and isinstance(node.ctx, ast.Store)}
+            bound |= {node.arg for node in ast.walk(tree) if isinstance(node, ast.arg)}
+            self.assertEqual(words - read, set(), name)
+            self.assertEqual(words & bound, set(), name)
+
+    def test_no_import_leads_back(self):
+        leads = {}
+        for name, text in sources():
+            leads["traproom." + name[:-3]] = {node.module for node in ast.walk(ast.parse(text))
+                                              if isinstance(node, ast.ImportFrom) and node.module not in LIBRARY}
+        while leads:
+            last = [name for name, others in leads.items() if not others & set(leads)]
+            self.assertNotEqual(last, [], leads)
+            leads = {name: others for name, others in leads.items() if name not in last}
+
+    def test_no_generators_and_no_decorators(self):
+        for name, text in sources():
+            for node in ast.walk(ast.parse(text)):
+                self.assertNotIsInstance(node, (ast.GeneratorExp, ast.Yield, ast.YieldFrom, ast.Global), name)
+                self.assertEqual(getattr(node, "decorator_list", []), [], name)
+
     def test_no_fractions_but_the_own_ones(self):
         for name, text in sources():
             for node in ast.walk(ast.parse(text)):
