@@ -1,7 +1,7 @@
 """Quadratics on bounded regions: their values, the least one, and evidence that they are nowhere less than a number.
 
-Rows and places are those of traproom/regions.py, made of integers. A face is told there by the indices of its forms,
-and by directions: lists of n integers, independent ones, as many as there are, along which the forms do not change.
+Rows and places are made of integers, as in traproom/regions.py. A face has the indices of its forms, and directions:
+lists of n integers along which these forms do not change, independent ones, as many as there are.
 """
 
 from traproom.kinds import is_index, is_tuple
