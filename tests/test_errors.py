@@ -23,6 +23,17 @@ class ErrorsTest(unittest.TestCase):
         for name in NAMES:
             self.assertNotIsInstance(errors.TraproomError("what is wrong"), getattr(errors, name))
 
+    def test_the_classes_that_each_one_derives_from(self):
+        self.assertEqual(errors.TraproomError.__bases__, (ValueError,))
+        for name in NAMES:
+            self.assertEqual(getattr(errors, name).__bases__, (errors.TraproomError,))
+
+    def test_there_are_no_others_and_they_have_no_fields(self):
+        found = [name for name, value in vars(errors).items() if isinstance(value, type)]
+        self.assertEqual(sorted(found), sorted(["TraproomError", *NAMES]))
+        for name in found:
+            self.assertEqual(vars(getattr(errors, name)("what is wrong")), {})
+
     def test_an_error_is_made_with_one_text(self):
         for name in ["TraproomError", *NAMES]:
             self.assertEqual(str(getattr(errors, name)("what is wrong")), "what is wrong")
